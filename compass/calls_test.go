@@ -94,6 +94,7 @@ func TestFirstErrorIsAnswered(t *testing.T) {
 	nan := complex(math.NaN(), math.NaN())
 	noTurn, tooFar := api.Turn{Scale: nan, Shift: nan}, api.Turn{Scale: 64, Shift: far}
 	two, noPoints, points := []complex128{nan, far}, []complex128{far, nan, far}, []complex128{far, far, far}
+	many := slices.Repeat([]complex128{nan}, 65)
 	for _, c := range []struct {
 		name string
 		call func() (bool, api.Errno)
@@ -113,6 +114,12 @@ func TestFirstErrorIsAnswered(t *testing.T) {
 			return len(l) == 0, e
 		}, api.ErrTurn},
 		{"Apply, too far", func() (bool, api.Errno) { l, e := compass.Apply(tooFar, points); return len(l) == 0, e }, api.ErrFar},
+		{"Bounds of two, no points", func() (bool, api.Errno) { b, e := compass.Bounds(two); return b == api.Box{}, e }, api.ErrShape},
+		{"Bounds of too many, no points", func() (bool, api.Errno) { b, e := compass.Bounds(many[:33]); return b == api.Box{}, e }, api.ErrShape},
+		{"Bounds of no points", func() (bool, api.Errno) { b, e := compass.Bounds(many[:32]); return b == api.Box{}, e }, api.ErrPoint},
+		{"Hull of too many, no points", func() (bool, api.Errno) { l, e := compass.Hull(many); return len(l) == 0, e }, api.ErrShape},
+		{"Hull of no points", func() (bool, api.Errno) { l, e := compass.Hull(many[:64]); return len(l) == 0, e }, api.ErrPoint},
+		{"Hull of two, no points", func() (bool, api.Errno) { l, e := compass.Hull(two); return len(l) == 0, e }, api.ErrPoint},
 		{"Compose of no turn, too far", func() (bool, api.Errno) {
 			x, e := compass.Compose(tooFar, api.Turn{Scale: 65, Shift: far})
 			return x == api.Turn{}, e
@@ -133,13 +140,15 @@ func roomy(n int) (list, whole []complex128) {
 
 func TestNothingHandedInIsWrittenInto(t *testing.T) {
 	turns := []api.Turn{{}, {Scale: 1}, {Scale: 2i, Shift: 3}, {Scale: 64, Shift: far}, {Scale: 65}}
-	for n := range 40 {
+	for n := range 70 {
 		for _, turn := range turns {
 			list, whole := roomy(n)
 			before := slices.Clone(whole)
 			compass.Twice(list)
 			compass.Winds(list, 1+1i)
 			compass.Apply(turn, list)
+			compass.Bounds(list)
+			compass.Hull(list)
 			if !isSame(whole, before) {
 				t.Fatalf("P2: %v has become %v", before, whole)
 			}
@@ -147,24 +156,39 @@ func TestNothingHandedInIsWrittenInto(t *testing.T) {
 	}
 }
 
-// TestApplyGivesNewMemory writes all over what Apply gives, its spare room too,
-// and all over what was handed in.
+// holdNewMemory writes all over what a call gives, its spare room too, and all
+// over what was handed in.
+func holdNewMemory(t *testing.T, name string, whole []complex128, call func() []complex128) {
+	t.Helper()
+	before := slices.Clone(whole)
+	first, second := call(), call()
+	want := slices.Clone(second)
+	fill(first, -7)
+	if !isSame(whole, before) || !isSame(second, want) {
+		t.Fatalf("P2: what %s gives shares memory: %v, %v", name, whole, second)
+	}
+	fill(whole, -8)
+	if !isSame(second, want) {
+		t.Fatalf("P2: what %s gives shares memory with what was handed in: %v", name, second)
+	}
+}
+
 func TestApplyGivesNewMemory(t *testing.T) {
 	for _, turn := range []api.Turn{{}, {Scale: 1}, {Scale: 2i, Shift: 3}} {
 		for n := api.MinShape; n <= api.MaxShape; n++ {
 			list, whole := roomy(n)
-			before := slices.Clone(whole)
-			first, _ := compass.Apply(turn, list)
-			second, _ := compass.Apply(turn, list)
-			want := slices.Clone(second)
-			fill(first, -7)
-			if !isSame(whole, before) || !isSame(second, want) {
-				t.Fatalf("P2: what Apply gives shares memory: %v, %v", whole, second)
-			}
-			fill(whole, -8)
-			if !isSame(second, want) {
-				t.Fatalf("P2: what Apply gives shares memory with what was handed in: %v", second)
-			}
+			holdNewMemory(t, "Apply", whole, func() []complex128 { l, _ := compass.Apply(turn, list); return l })
+		}
+	}
+}
+
+// TestHullGivesNewMemory: also where the points are the answer as they stand, a
+// line, or one point.
+func TestHullGivesNewMemory(t *testing.T) {
+	for n := 1; n <= api.MaxHull; n++ {
+		for _, points := range [][]complex128{spiral(n), bowl(n), backwards(column(n)), make([]complex128, n)} {
+			whole := append(points, 101, 102i, 103, 104i)
+			holdNewMemory(t, "Hull", whole, func() []complex128 { l, _ := compass.Hull(whole[:n]); return l })
 		}
 	}
 }
@@ -184,10 +208,12 @@ func TestAnswersHangOnArgumentsAlone(t *testing.T) {
 		times, on, f := compass.Winds(shape, 1)
 		l, g := compass.Apply(api.Turn{Scale: 2 - 1i, Shift: 5}, shape)
 		x, h := compass.Compose(api.Turn{Scale: 2}, api.Turn{Scale: 3, Shift: complex(float64(len(shape)), 0)})
-		return fmt.Sprint(n, e, times, on, f, l, g, x, h)
+		b, i := compass.Bounds(shape)
+		around, j := compass.Hull(shape)
+		return fmt.Sprint(n, e, times, on, f, l, g, x, h, b, i, around, j)
 	}
 	var told []string
-	for n := range 40 {
+	for n := range 70 {
 		list, _ := roomy(n)
 		told = append(told, tell(list))
 	}

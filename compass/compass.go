@@ -53,23 +53,38 @@ func Compose(t, u api.Turn) (api.Turn, api.Errno) {
 	return both, api.OK
 }
 
-// checkShape is the error of a list that is no shape. The count goes first, as
-// every promise names ErrShape ahead of ErrPoint.
+// Bounds is a shape's box (P6).
+func Bounds(shape []complex128) (api.Box, api.Errno) {
+	if e := checkShape(shape); e != api.OK {
+		return api.Box{}, e
+	}
+	return plane.Bounds(shape), api.OK
+}
+
+// Hull is what goes around points (P6).
+func Hull(points []complex128) ([]complex128, api.Errno) {
+	if e := checkPoints(points, 1, api.MaxHull); e != api.OK {
+		return nil, e
+	}
+	return plane.Hull(points), api.OK
+}
+
+// checkShape is the error of a list that is no shape.
 func checkShape(shape []complex128) api.Errno {
-	if len(shape) < api.MinShape || len(shape) > api.MaxShape {
+	return checkPoints(shape, api.MinShape, api.MaxShape)
+}
+
+// checkPoints is the error of a list that is not of least to most points. The
+// count goes first, as every promise names ErrShape ahead of ErrPoint.
+func checkPoints(list []complex128, least, most int) api.Errno {
+	if len(list) < least || len(list) > most {
 		return api.ErrShape
 	}
-	if !plane.ArePoints(shape) {
+	if !plane.ArePoints(list) {
 		return api.ErrPoint
 	}
 	return api.OK
 }
-
-// Bounds is a shape's box (P6).
-func Bounds(shape []complex128) (api.Box, api.Errno) { return api.Box{}, api.OK }
-
-// Hull is what goes around points (P6).
-func Hull(points []complex128) ([]complex128, api.Errno) { return nil, api.OK }
 
 // View is how a map stands.
 type View struct{}

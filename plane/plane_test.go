@@ -49,3 +49,32 @@ func TestIsTurn(t *testing.T) {
 		t.Error("a shift may be no point")
 	}
 }
+
+func TestBoundsOfFewPoints(t *testing.T) {
+	for _, c := range []struct {
+		points []complex128
+		want   api.Box
+	}{
+		{[]complex128{3 - 2i}, api.Box{3 - 2i, 3 - 2i}},
+		{[]complex128{3 - 2i, 1}, api.Box{1 - 2i, 3}},
+		{[]complex128{-api.MaxPart, api.MaxPart}, api.Box{-api.MaxPart, api.MaxPart}},
+	} {
+		if got := Bounds(c.points); got != c.want {
+			t.Errorf("Bounds(%v) = %v, want %v", c.points, got, c.want)
+		}
+	}
+}
+
+func TestBendsLeft(t *testing.T) {
+	for _, c := range []struct {
+		a, b, c complex128
+		want    bool
+	}{
+		{0, 1, 1 + 1i, true}, {0, 1, 1 - 1i, false}, {0, 1, 2, false}, {0, 1, 0, false},
+		{-api.MaxPart, api.MaxPart, 1i, true}, {-api.MaxPart, 0, api.MaxPart, false},
+	} {
+		if got := bendsLeft(c.a, c.b, c.c); got != c.want {
+			t.Errorf("bendsLeft(%v, %v, %v) = %v", c.a, c.b, c.c, got)
+		}
+	}
+}
