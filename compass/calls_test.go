@@ -193,7 +193,8 @@ func TestHullGivesNewMemory(t *testing.T) {
 	}
 }
 
-func fill(list []complex128, z complex128) {
+// fill writes all over a list and its spare room.
+func fill[T any](list []T, z T) {
 	list = list[:cap(list)]
 	for i := range list {
 		list[i] = z

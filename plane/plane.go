@@ -1,5 +1,6 @@
-// Package plane measures and turns points and shapes. Only IsPoint, ArePoints
-// and IsTurn take any number; whoever calls the others has asked these first.
+// Package plane measures and turns points, boxes and shapes. Only IsPoint,
+// ArePoints, IsTurn and IsBox take any number; whoever calls the others has
+// asked these first.
 package plane
 
 import (

@@ -50,21 +50,6 @@ func TestIsTurn(t *testing.T) {
 	}
 }
 
-func TestBoundsOfFewPoints(t *testing.T) {
-	for _, c := range []struct {
-		points []complex128
-		want   api.Box
-	}{
-		{[]complex128{3 - 2i}, api.Box{3 - 2i, 3 - 2i}},
-		{[]complex128{3 - 2i, 1}, api.Box{1 - 2i, 3}},
-		{[]complex128{-api.MaxPart, api.MaxPart}, api.Box{-api.MaxPart, api.MaxPart}},
-	} {
-		if got := Bounds(c.points); got != c.want {
-			t.Errorf("Bounds(%v) = %v, want %v", c.points, got, c.want)
-		}
-	}
-}
-
 func TestBendsLeft(t *testing.T) {
 	for _, c := range []struct {
 		a, b, c complex128
