@@ -74,6 +74,8 @@ func TestNoCallOfAMapPanics(t *testing.T) {
 				}
 				m.Drop(i)
 				askAll(m.View, i, z)
+				askAll(stood(t, m, 0), i, z)
+				askAll(stood(t, m, m.Commit()-1), i, z)
 			})
 		}
 	}

@@ -6,12 +6,14 @@ import (
 )
 
 // Map is shapes by their numbers: how it stands, and all its versions.
+// The versions are values, so that none is what a caller has a pointer to.
 type Map struct {
 	*View
+	versions []View
 }
 
-// New makes a map without shapes (P7).
-func New() *Map { return &Map{View: &View{}} }
+// New makes a map without shapes (P7), and with a version without any (P8).
+func New() *Map { return &Map{View: &View{}, versions: []View{{}}} }
 
 // Put lays a shape down (P7).
 func (m *Map) Put(id int, shape []complex128) api.Errno {
@@ -52,11 +54,19 @@ func (m *Map) Turn(id int, t api.Turn) api.Errno {
 }
 
 // Commit makes a version of how it stands (P8).
-func (m *Map) Commit() int { return 0 }
+func (m *Map) Commit() int {
+	m.versions = append(m.versions, *m.View)
+	return len(m.versions) - 1
+}
 
-// At is how it stood at a version (P8). As long as none are kept it answers
-// that there is none: whoever gets OK asks the view that stands beside it.
-func (m *Map) At(version int) (*View, api.Errno) { return nil, api.ErrVersion }
+// At is how it stood at a version (P8).
+func (m *Map) At(version int) (*View, api.Errno) {
+	if version < 0 || version >= len(m.versions) {
+		return nil, api.ErrVersion
+	}
+	stood := m.versions[version]
+	return &stood, api.OK
+}
 
 // lay makes the map stand with that shape at id, or with none there if it is
 // nil. The view that it had stays as it is for whoever holds it.

@@ -46,15 +46,23 @@ func TestAMapHasNoShapesAtFirst(t *testing.T) {
 // TestTheDocumentsMap: the last of the document's examples.
 func TestTheDocumentsMap(t *testing.T) {
 	m := compass.New()
-	a, b, c := m.Put(7, []complex128{0, 4, 4i}), m.Turn(7, api.Turn{Scale: 1, Shift: 10}), m.Put(3, []complex128{0, 1, 1i})
-	if a != api.OK || b != api.OK || c != api.OK || m.Count() != 2 {
-		t.Fatalf("P7: Put, Turn, Put = %d, %d, %d; Count = %d", a, b, c, m.Count())
+	if e, n := m.Put(7, []complex128{0, 4, 4i}), m.Commit(); e != api.OK || n != 1 {
+		t.Fatalf("P8: Put, Commit = %d, %d", e, n)
+	}
+	if e, f := m.Turn(7, api.Turn{Scale: 1, Shift: 10}), m.Put(3, []complex128{0, 1, 1i}); e != api.OK || f != api.OK {
+		t.Fatalf("P7: Turn, Put = %d, %d", e, f)
 	}
 	if l, e := m.Window(api.Box{0, 5}); !slices.Equal(l, []int{3}) || e != api.OK {
 		t.Errorf("P9: Window = %v, %d", l, e)
 	}
+	if l, e := stood(t, m, 1).Window(api.Box{0, 5}); !slices.Equal(l, []int{7}) || e != api.OK {
+		t.Errorf("P9: Window of version 1 = %v, %d", l, e)
+	}
 	if l, e := m.Near(6, 2); !slices.Equal(l, []int{7, 3}) || e != api.OK {
 		t.Errorf("P9: Near = %v, %d", l, e)
+	}
+	if m.Count() != 2 || stood(t, m, 0).Count() != 0 {
+		t.Errorf("P9: Count = %d, of version 0 %d", m.Count(), stood(t, m, 0).Count())
 	}
 	if l, e := m.Hits(12 + 1i); !slices.Equal(l, []int{7}) || e != api.OK {
 		t.Errorf("P9: Hits = %v, %d", l, e)
@@ -242,6 +250,33 @@ func (n *numbers) someTurn(most int) api.Turn {
 	return turn
 }
 
+// change does one thing to a map and to its model, as it comes, and tells what
+// the answer was.
+func (n *numbers) change(t *testing.T, m *compass.Map, o model, most int) api.Errno {
+	t.Helper()
+	id, got, want := n.someID(), api.OK, api.OK
+	switch n.next() % 5 {
+	case 0, 1:
+		shape := n.someShape(most)
+		got, want = m.Put(id, shape), o.put(id, shape)
+	case 2:
+		got, want = m.Drop(id), o.drop(id)
+	default:
+		turn := n.someTurn(most)
+		got, want = m.Turn(id, turn), o.turn(id, turn)
+	}
+	if got != want {
+		t.Fatalf("P7: id %d: the answer is %d, want %d", id, got, want)
+	}
+	return got
+}
+
+// someBox: a small one, whose least corner is p.
+func (n *numbers) someBox(p complex128) api.Box {
+	size := complex(float64(n.next()%9), float64(n.next()%9))
+	return api.Box{p, complex(min(far, real(p+size)), min(far, imag(p+size)))}
+}
+
 // TestMapsAgainstModels changes two maps in turn, as it comes, and holds each
 // against a model of its own.
 func TestMapsAgainstModels(t *testing.T) {
@@ -251,23 +286,9 @@ func TestMapsAgainstModels(t *testing.T) {
 		answered := map[api.Errno]int{}
 		for step := range 4000 {
 			m, o := ms[step%2], os[step%2]
-			id, got, want := chance.someID(), api.OK, api.OK
-			switch chance.next() % 5 {
-			case 0, 1:
-				shape := chance.someShape(most)
-				got, want = m.Put(id, shape), o.put(id, shape)
-			case 2:
-				got, want = m.Drop(id), o.drop(id)
-			default:
-				turn := chance.someTurn(most)
-				got, want = m.Turn(id, turn), o.turn(id, turn)
-			}
-			if got != want {
-				t.Fatalf("P7: step %d, id %d: the answer is %d, want %d", step, id, got, want)
-			}
-			answered[got]++
-			p, size := chance.point(most), complex(float64(chance.next()%9), float64(chance.next()%9))
-			b := api.Box{p, complex(min(far, real(p+size)), min(far, imag(p+size)))}
+			answered[chance.change(t, m, o, most)]++
+			p := chance.point(most)
+			b := chance.someBox(p)
 			o.holdAsked(t, m, b, p, int(chance.next()%101))
 			os[1-step%2].holdAsked(t, ms[1-step%2].View, b, p, 5)
 			if step%97 == 0 {

@@ -46,6 +46,32 @@ func tell(v asked) string {
 	return text
 }
 
+// stood: how a map stood at a version that there is.
+func stood(t *testing.T, m *compass.Map, version int) *compass.View {
+	t.Helper()
+	v, e := m.At(version)
+	if v == nil || e != api.OK {
+		t.Fatalf("P8: At(%d) = %v, %d", version, v, e)
+	}
+	return v
+}
+
+// standings: these shapes as a map stands with them, and as one stood whose
+// shapes are others by now.
+func standings(t *testing.T, o model) []asked {
+	t.Helper()
+	m := put(t, o)
+	v := stood(t, m, m.Commit())
+	for id := range o {
+		m.Drop(id)
+	}
+	for id := range 40 {
+		m.Put(id*25, block(complex(float64(id), 0), 2))
+	}
+	m.Commit()
+	return []asked{put(t, o), v}
+}
+
 // model: what a map is, told in another way: all in a Go map, asked in integers.
 type model map[int][]complex128
 

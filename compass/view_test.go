@@ -6,11 +6,10 @@ import (
 	"testing"
 
 	"compass/api"
-	"compass/compass"
 )
 
 func TestWindowOfBoxes(t *testing.T) {
-	m := put(t, model{
+	stand := standings(t, model{
 		7:   block(0, 4),
 		3:   {10, 14, 10 + 4i},
 		500: {-20, -20, -20},
@@ -65,8 +64,10 @@ func TestWindowOfBoxes(t *testing.T) {
 		{"-0", api.Box{complex(math.Copysign(0, -1), math.Copysign(0, -1)), 0}, []int{7}},
 		{"0 and -0", api.Box{0, complex(math.Copysign(0, -1), math.Copysign(0, -1))}, []int{7}},
 	} {
-		if l, e := m.Window(c.b); !slices.Equal(l, c.want) || e != api.OK {
-			t.Errorf("P9: %s: Window(%v) = %v, %d, want %v", c.name, c.b, l, e, c.want)
+		for _, v := range stand {
+			if l, e := v.Window(c.b); !slices.Equal(l, c.want) || e != api.OK {
+				t.Errorf("P9: %s: Window(%v) of %T = %v, %d, want %v", c.name, c.b, v, l, e, c.want)
+			}
 		}
 	}
 }
@@ -83,14 +84,14 @@ func smallBoxes() []api.Box {
 	return list
 }
 
-// putSmallBoxes makes a map of shapes that have these boxes.
-func putSmallBoxes(t *testing.T) (*compass.Map, []api.Box) {
+// putSmallBoxes lays down shapes that have these boxes.
+func putSmallBoxes(t *testing.T) ([]asked, []api.Box) {
 	t.Helper()
 	boxes, o := smallBoxes(), model{}
 	for id, b := range boxes {
 		o[id] = []complex128{b[0], b[1], b[0]}
 	}
-	return put(t, o), boxes
+	return standings(t, o), boxes
 }
 
 // pointsOf: all points of a small box.
@@ -107,7 +108,7 @@ func pointsOf(b api.Box) []complex128 {
 // TestWindowsByPoints holds each box against each other one by the document's
 // words: whether a point is in both.
 func TestWindowsByPoints(t *testing.T) {
-	m, boxes := putSmallBoxes(t)
+	stand, boxes := putSmallBoxes(t)
 	for _, b := range boxes {
 		var want []int
 		for id, other := range boxes {
@@ -115,18 +116,22 @@ func TestWindowsByPoints(t *testing.T) {
 				want = append(want, id)
 			}
 		}
-		if l, e := m.Window(b); !slices.Equal(l, want) || e != api.OK {
-			t.Errorf("P9: Window(%v) = %v, %d, want %v", b, l, e, want)
+		for _, v := range stand {
+			if l, e := v.Window(b); !slices.Equal(l, want) || e != api.OK {
+				t.Errorf("P9: Window(%v) of %T = %v, %d, want %v", b, v, l, e, want)
+			}
 		}
 	}
 }
 
 func TestWindowOfNoBoxes(t *testing.T) {
-	m := put(t, model{5: square})
+	stand := standings(t, model{5: square})
 	refuse := func(b api.Box) {
 		t.Helper()
-		if l, e := m.Window(b); len(l) != 0 || e != api.ErrBox {
-			t.Errorf("P9: Window(%v) = %v, %d, want ErrBox", b, l, e)
+		for _, v := range stand {
+			if l, e := v.Window(b); len(l) != 0 || e != api.ErrBox {
+				t.Errorf("P9: Window(%v) of %T = %v, %d, want ErrBox", b, v, l, e)
+			}
 		}
 	}
 	for _, b := range []api.Box{
@@ -144,7 +149,7 @@ func TestWindowOfNoBoxes(t *testing.T) {
 }
 
 func TestHitsOfPlaces(t *testing.T) {
-	m := put(t, model{
+	stand := standings(t, model{
 		7:   block(0, 4),
 		2:   backwards(block(0, 4)),
 		3:   {10, 14, 10 + 4i},
@@ -188,8 +193,10 @@ func TestHitsOfPlaces(t *testing.T) {
 		{"the plane's other corner", complex(far, -far), nil},
 		{"-0", complex(math.Copysign(0, -1), math.Copysign(0, -1)), []int{2, 7}},
 	} {
-		if l, e := m.Hits(c.p); !slices.Equal(l, c.want) || e != api.OK {
-			t.Errorf("P9: %s: Hits(%v) = %v, %d, want %v", c.name, c.p, l, e, c.want)
+		for _, v := range stand {
+			if l, e := v.Hits(c.p); !slices.Equal(l, c.want) || e != api.OK {
+				t.Errorf("P9: %s: Hits(%v) of %T = %v, %d, want %v", c.name, c.p, v, l, e, c.want)
+			}
 		}
 	}
 }
@@ -202,27 +209,28 @@ func TestWhoeverHitsIsInTheBox(t *testing.T) {
 		for id := range 60 {
 			o[id] = chance.points(3+id%6, most)
 		}
-		m := put(t, o)
-		found := 0
-		for range 300 {
-			p := chance.point(most)
-			hit, _ := m.Hits(p)
-			boxed, _ := m.Window(api.Box{p, p})
-			for _, id := range hit {
-				if !slices.Contains(boxed, id) {
-					t.Errorf("P10: %v hits %v, and is not in its box", p, o[id])
+		places := chance.points(300, most)
+		for _, v := range standings(t, o) {
+			found := 0
+			for _, p := range places {
+				hit, _ := v.Hits(p)
+				boxed, _ := v.Window(api.Box{p, p})
+				for _, id := range hit {
+					if !slices.Contains(boxed, id) {
+						t.Errorf("P10: %v hits %v of %T, and is not in its box", p, o[id], v)
+					}
+					found++
 				}
-				found++
 			}
-		}
-		if found == 0 {
-			t.Error("nothing was hit")
+			if found == 0 {
+				t.Error("nothing was hit")
+			}
 		}
 	}
 }
 
 func TestNearPlaces(t *testing.T) {
-	m := put(t, model{
+	stand := standings(t, model{
 		7:   block(0, 4),
 		3:   {10, 14, 10 + 4i},
 		9:   block(20, 4),
@@ -256,8 +264,10 @@ func TestNearPlaces(t *testing.T) {
 		{"from the greatest point", complex(far, far), 6, []int{9, 3, 7, 999, 1, 0}},
 		{"from the least point", complex(-far, -far), 6, []int{0, 1, 7, 999, 3, 9}},
 	} {
-		if l, e := m.Near(c.p, c.n); !slices.Equal(l, c.want) || e != api.OK {
-			t.Errorf("P9: %s: Near(%v, %d) = %v, %d, want %v", c.name, c.p, c.n, l, e, c.want)
+		for _, v := range stand {
+			if l, e := v.Near(c.p, c.n); !slices.Equal(l, c.want) || e != api.OK {
+				t.Errorf("P9: %s: Near(%v, %d) of %T = %v, %d, want %v", c.name, c.p, c.n, v, l, e, c.want)
+			}
 		}
 	}
 }
@@ -265,7 +275,7 @@ func TestNearPlaces(t *testing.T) {
 // TestNearByPoints holds how far boxes are against the distances to all their
 // points, from places in, beside and off the boxes.
 func TestNearByPoints(t *testing.T) {
-	m, boxes := putSmallBoxes(t)
+	stand, boxes := putSmallBoxes(t)
 	for _, p := range pointsOf(api.Box{-3 - 3i, 6 + 6i}) {
 		off := func(id int) float64 {
 			least := math.Inf(1)
@@ -274,13 +284,15 @@ func TestNearByPoints(t *testing.T) {
 			}
 			return least
 		}
-		l, e := m.Near(p, 100)
-		if len(l) != len(boxes) || e != api.OK {
-			t.Fatalf("P9: Near(%v, 100) = %v, %d", p, l, e)
-		}
-		for i := range l[1:] {
-			if a, b := off(l[i]), off(l[i+1]); a > b || a == b && l[i] >= l[i+1] {
-				t.Fatalf("P9: Near(%v): %d, %v away, stands ahead of %d, %v away", p, l[i], a, l[i+1], b)
+		for _, v := range stand {
+			l, e := v.Near(p, 100)
+			if len(l) != len(boxes) || e != api.OK {
+				t.Fatalf("P9: Near(%v, 100) of %T = %v, %d", p, v, l, e)
+			}
+			for i := range l[1:] {
+				if a, b := off(l[i]), off(l[i+1]); a > b || a == b && l[i] >= l[i+1] {
+					t.Fatalf("P9: Near(%v) of %T: %d, %v away, stands ahead of %d, %v away", p, v, l[i], a, l[i+1], b)
+				}
 			}
 		}
 	}
@@ -312,15 +324,16 @@ func TestNearCounts(t *testing.T) {
 		for id := range there {
 			o[id] = block(complex(float64(there-id), 0), 1)
 		}
-		m := put(t, o)
-		for n := range 101 {
-			l, e := m.Near(-5, n)
-			if len(l) != min(n, there) || e != api.OK {
-				t.Fatalf("P9: Near(%d) of %d = %v, %d", n, there, l, e)
-			}
-			for i, id := range l {
-				if id != there-1-i {
-					t.Fatalf("P9: Near(%d) of %d = %v", n, there, l)
+		for _, v := range standings(t, o) {
+			for n := range 101 {
+				l, e := v.Near(-5, n)
+				if len(l) != min(n, there) || e != api.OK {
+					t.Fatalf("P9: Near(%d) of %d = %v, %d", n, there, l, e)
+				}
+				for i, id := range l {
+					if id != there-1-i {
+						t.Fatalf("P9: Near(%d) of %d = %v", n, there, l)
+					}
 				}
 			}
 		}
@@ -328,22 +341,27 @@ func TestNearCounts(t *testing.T) {
 }
 
 func TestWrongQuestions(t *testing.T) {
-	for _, m := range []*compass.Map{compass.New(), put(t, model{0: square, 5: square})} {
+	for _, v := range append(standings(t, model{}), standings(t, model{0: square, 5: square})...) {
 		for _, z := range noPoints() {
-			if l, e := m.Hits(z); len(l) != 0 || e != api.ErrPoint {
-				t.Errorf("P9: Hits(%v) = %v, %d", z, l, e)
+			if l, e := v.Hits(z); len(l) != 0 || e != api.ErrPoint {
+				t.Errorf("P9: Hits(%v) of %T = %v, %d", z, v, l, e)
 			}
 			for _, n := range []int{0, 1, 100, 101, -1} {
-				if l, e := m.Near(z, n); len(l) != 0 || e != api.ErrPoint {
-					t.Errorf("P9: Near(%v, %d) = %v, %d", z, n, l, e)
+				if l, e := v.Near(z, n); len(l) != 0 || e != api.ErrPoint {
+					t.Errorf("P9: Near(%v, %d) of %T = %v, %d", z, n, v, l, e)
 				}
 			}
 		}
 		for _, n := range []int{-1, 101, 102, -100, math.MaxInt, math.MinInt, 1 << 32, 1<<32 + 1} {
 			for _, p := range []complex128{0, complex(far, far)} {
-				if l, e := m.Near(p, n); len(l) != 0 || e != api.ErrCount {
-					t.Errorf("P9: Near(%v, %d) = %v, %d", p, n, l, e)
+				if l, e := v.Near(p, n); len(l) != 0 || e != api.ErrCount {
+					t.Errorf("P9: Near(%v, %d) of %T = %v, %d", p, n, v, l, e)
 				}
+			}
+		}
+		for _, id := range noIDs {
+			if l, e := v.Get(id); len(l) != 0 || e != api.ErrID {
+				t.Errorf("P9: Get(%d) of %T = %v, %d", id, v, l, e)
 			}
 		}
 	}

@@ -21,10 +21,10 @@ func TestShelvesStay(t *testing.T) {
 	three := two.With(5, nil)
 	for _, c := range []struct {
 		name      string
-		shelf     *Shelf
+		shelf     Shelf
 		five, six *plane.Shape
 	}{
-		{"empty", &empty, nil, nil}, {"one", &one, a, nil}, {"two", &two, a, b}, {"three", &three, nil, b},
+		{"empty", empty, nil, nil}, {"one", one, a, nil}, {"two", two, a, b}, {"three", three, nil, b},
 	} {
 		if c.shelf.Find(5) != c.five || c.shelf.Find(6) != c.six || c.shelf.Find(0) != nil || c.shelf.Find(api.MaxID) != nil {
 			t.Errorf("%s has changed", c.name)
