@@ -302,19 +302,21 @@ func TestNearByPoints(t *testing.T) {
 // farther is farther.
 func TestNearAtTheEndsOfThePlane(t *testing.T) {
 	corner := complex(far, far)
-	m := put(t, model{
+	for _, v := range standings(t, model{
 		1: slices.Repeat([]complex128{corner}, 3), 2: slices.Repeat([]complex128{corner - 1}, 3), 3: slices.Repeat([]complex128{corner - 1i}, 3),
 		4: slices.Repeat([]complex128{corner - 1 - 1i}, 3), 5: {corner - 1 - 1i, corner, corner},
-	})
-	if l, e := m.Near(-corner, 100); !slices.Equal(l, []int{4, 5, 2, 3, 1}) || e != api.OK {
-		t.Errorf("P9: Near from the least point = %v, %d", l, e)
+	}) {
+		if l, e := v.Near(-corner, 100); !slices.Equal(l, []int{4, 5, 2, 3, 1}) || e != api.OK {
+			t.Errorf("P9: Near of %T from the least point = %v, %d", v, l, e)
+		}
+		if l, e := v.Near(corner, 100); !slices.Equal(l, []int{1, 5, 2, 3, 4}) || e != api.OK {
+			t.Errorf("P9: Near of %T from the greatest point = %v, %d", v, l, e)
+		}
 	}
-	if l, e := m.Near(corner, 100); !slices.Equal(l, []int{1, 5, 2, 3, 4}) || e != api.OK {
-		t.Errorf("P9: Near from the greatest point = %v, %d", l, e)
-	}
-	m = put(t, model{8: slices.Repeat([]complex128{complex(far, -far)}, 3), 0: slices.Repeat([]complex128{complex(far, 1-far)}, 3)})
-	if l, e := m.Near(-corner, 100); !slices.Equal(l, []int{8, 0}) || e != api.OK {
-		t.Errorf("P9: Near from the least point, squares that differ by 1 = %v, %d", l, e)
+	for _, v := range standings(t, model{8: slices.Repeat([]complex128{complex(far, -far)}, 3), 0: slices.Repeat([]complex128{complex(far, 1-far)}, 3)}) {
+		if l, e := v.Near(-corner, 100); !slices.Equal(l, []int{8, 0}) || e != api.OK {
+			t.Errorf("P9: Near of %T from the least point, squares that differ by 1 = %v, %d", v, l, e)
+		}
 	}
 }
 
